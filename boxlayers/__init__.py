@@ -1,0 +1,1 @@
+"""Boxlayers: things at places of one to four numbers, asked by boxes."""
