@@ -93,3 +93,35 @@ def number_fits(span, number):
 
 def place_fits(box, place):
     return all(number_fits(box[i], place[i]) for i in range(len(box)))
+
+
+def whole(d):
+    """The box that all places fit."""
+    return ((None, None),) * d
+
+
+def edge_boxes(d):
+    """The box of all None, and boxes that nothing fits, each in its own way."""
+    crossed = [((3, True), (2, True)), ((2, False), (3, False)), ((2, False), (2, True)), ((BIG, True), (-BIG, True))]
+    some = [(whole(d)[:i] + (span,) + whole(d)[i + 1:]) for i in range(d) for span in crossed]
+    far = [((BIG, True), None), (None, (-BIG, True)), ((-BIG, True), (BIG, True)), ((-BIG, False), (BIG, False))]
+    return [whole(d)] + some + [(span,) * d for span in far + crossed]
+
+
+def made_house(dice, d, many, numbers=range(-4, 5), worths=range(-9, 10)):
+    """A house of so many things by a seeded source, names with gaps between."""
+    names = sorted(dice.sample(range(3 * many + 1), many))
+    return (d, tuple((name, tuple(dice.choice(numbers) for i in range(d)), dice.choice(worths)) for name in names))
+
+
+def things_in(house, box):
+    """The things that fit, as the document tells it."""
+    return [thing for thing in house[1] if place_fits(box, thing[1])]
+
+
+def put(names, is_ahead):
+    """The names with each at the position of how many are ahead of it."""
+    row = [None] * len(names)
+    for name in names:
+        row[sum(is_ahead(other, name) for other in names)] = name
+    return tuple(row)

@@ -19,6 +19,14 @@ BARRED_NODES = (
     ast.With, ast.Match, ast.Global, ast.Nonlocal, ast.Yield, ast.YieldFrom, ast.Await, ast.AsyncFunctionDef,
     ast.AsyncFor, ast.AsyncWith, ast.GeneratorExp, ast.NamedExpr, ast.Div, ast.MatMult, ast.Import,
 )
+# L25's methods, and the values that L26 bars.
+PYTHONS_METHODS = set(
+    "append clear copy count endswith extend find get index insert isalnum isalpha isdigit islower isspace isupper items "
+    "join keys ljust lower lstrip partition pop remove replace reverse rfind rjust rpartition rsplit rstrip setdefault "
+    "split splitlines startswith strip update upper values zfill bit_length sort add discard isascii isdecimal".split())
+BARRED_VALUES = set(
+    "items keys values pop update append clear extend insert remove reverse setdefault sort args encode decode hex "
+    "fromhex format".split())
 
 
 def nodes(path):
@@ -94,6 +102,70 @@ class Form(unittest.TestCase):
                 if isinstance(node, ast.arg):
                     self.assertNotIn(node.arg, PYTHONS_NAMES, at)
                     self.assertNotEqual(node.arg[0], "_", at)
+
+    def test_no_name_stands_for_an_import_too(self):
+        for path in FILES:
+            outer = self.outer_names(path)
+            for node in nodes(path):
+                at = (path.name, getattr(node, "lineno", None))
+                if isinstance(node, ast.Name) and isinstance(node.ctx, ast.Store):
+                    self.assertNotIn(node.id, outer, at)
+                if isinstance(node, ast.arg):
+                    self.assertNotIn(node.arg, outer, at)
+
+    def outer_names(self, path):
+        """The names of a file's imports and classes."""
+        tree = ast.parse(path.read_text())
+        names = {node.name for node in tree.body if isinstance(node, ast.ClassDef)}
+        for node in tree.body:
+            if isinstance(node, ast.ImportFrom):
+                names |= {alias.asname or alias.name for alias in node.names}
+        return names
+
+    def test_no_two_files_draw_from_one_another(self):
+        drawn = {}
+        for path in FILES:
+            drawn[path.stem] = {node.module.split(".")[1] for node in nodes(path) if isinstance(node, ast.ImportFrom)}
+        while drawn:
+            free = [stem for stem in drawn if not drawn[stem] & set(drawn)]
+            self.assertNotEqual(free, [], drawn)
+            for stem in free:
+                del drawn[stem]
+
+    def test_methods_and_values_of_objects(self):
+        methods, values, called = set(), set(), []
+        for path in FILES:
+            for node in nodes(path):
+                if isinstance(node, ast.ClassDef):
+                    methods |= {each.name for each in node.body if isinstance(each, ast.FunctionDef)}
+                if isinstance(node, ast.Attribute) and isinstance(node.ctx, ast.Store):
+                    values.add(node.attr)
+                if isinstance(node, ast.Call) and isinstance(node.func, ast.Attribute):
+                    called.append((node.func.attr, path.name, node.lineno))
+        self.assertEqual(methods & values, set())
+        self.assertEqual(values & BARRED_VALUES, set())
+        for name, file_name, line in called:
+            self.assertTrue(name in methods or name in PYTHONS_METHODS, (name, file_name, line))
+            # These would have to be walked on the spot.
+            self.assertNotIn(name, {"keys", "values"} & methods, (file_name, line))
+
+    def test_sets_stand_where_they_are_used_up(self):
+        for path in FILES:
+            for node in nodes(path):
+                made = isinstance(node, (ast.Set, ast.SetComp))
+                made = made or (isinstance(node, ast.Call) and getattr(node.func, "id", "") == "set")
+                if made:
+                    spot = [each for each in nodes(path) if self.holds(each, node)]
+                    self.assertNotEqual(spot, [], (path.name, node.lineno))
+
+    def holds(self, outer, made):
+        """Whether outer is a call of sorted or len, or a comparison, right round the set that is made."""
+        inner = []
+        if isinstance(outer, ast.Call) and getattr(outer.func, "id", "") in ("sorted", "len"):
+            inner = outer.args
+        if isinstance(outer, ast.Compare):
+            inner = [outer.left] + outer.comparators
+        return any(ast.dump(each, include_attributes=True) == ast.dump(made, include_attributes=True) for each in inner)
 
 
 if __name__ == "__main__":

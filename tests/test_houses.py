@@ -8,12 +8,6 @@ from boxlayers.errors import BoxError, NoLine, NoNumber, NoText, NoThing, Taken
 from boxlayers.houses import fitting, is_house, thing_of
 
 
-def made_house(dice, d, many):
-    """A house of so many things, names with gaps between."""
-    names = sorted(dice.sample(range(3 * many + 1), many))
-    return (d, tuple((name, tuple(dice.randint(-4, 4) for i in range(d)), dice.randint(-9, 9)) for name in names))
-
-
 def with_thing(house, at, thing):
     d, things = house
     return (d, things[:at] + (thing,) + things[at + 1:])
@@ -22,13 +16,13 @@ def with_thing(house, at, thing):
 class IsHouse(unittest.TestCase):
     def setUp(self):
         dice = random.Random(10)
-        self.houses = [made_house(dice, d, many) for d in range(1, 5) for many in (0, 1, 2, 7)]
+        self.houses = [samples.made_house(dice, d, many) for d in range(1, 5) for many in (0, 1, 2, 7)]
 
     def test_houses(self):
         dice = random.Random(11)
         for d in range(1, 5):
             for many in (0, 1, 2, 5, 60, 300, 301):
-                house = made_house(dice, d, many)
+                house = samples.made_house(dice, d, many)
                 self.assertIs(is_house(house), True)
                 self.assertIs(is_house(house), True)
 
@@ -51,7 +45,7 @@ class IsHouse(unittest.TestCase):
     def test_another_last_of_many(self):
         dice = random.Random(12)
         for d, many in ((1, 300), (2, 300), (3, 301), (4, 60), (4, 301)):
-            d, things = made_house(dice, d, many)
+            d, things = samples.made_house(dice, d, many)
             name, place, worth = things[-1]
             for other in ((things[0][0], place, worth), (name, place + (1,), worth), (name, place, None), [name, place, worth]):
                 self.assertIs(is_house((d, things[:-1] + (other,))), False)
@@ -95,7 +89,7 @@ class ThingOf(unittest.TestCase):
     def test_each_name(self):
         dice = random.Random(13)
         for d in range(1, 5):
-            house = made_house(dice, d, 20)
+            house = samples.made_house(dice, d, 20)
             for thing in house[1]:
                 self.assertEqual(thing_of(house, thing[0]), thing)
 
@@ -136,7 +130,7 @@ class Fitting(unittest.TestCase):
         dice = random.Random(14)
         for d in range(1, 5):
             for many in (1, 5, 60):
-                house = made_house(dice, d, many)
+                house = samples.made_house(dice, d, many)
                 for box in samples.boxes(dice, d, 40, range(-3, 4)):
                     just = tuple(name for name, place, worth in house[1] if samples.place_fits(box, place))
                     self.assertEqual(fitting(house, box), just)
