@@ -49,6 +49,16 @@ def lies_in(pair, number):
     return (least is None or least <= number) and (greatest is None or number <= greatest)
 
 
+def all_below(ends, pair):
+    """Whether all numbers from ends' least to its greatest are below the least of pair."""
+    return pair[0] is not None and ends[1] < pair[0]
+
+
+def all_above(ends, pair):
+    """Whether all numbers from ends' least to its greatest are above the greatest of pair."""
+    return pair[1] is not None and ends[0] > pair[1]
+
+
 def pair_of(span):
     """The least and the greatest number that a span's ends let fit, crossed where none fits."""
     low, high = span

@@ -38,3 +38,8 @@ def thing_of(house, name):
 def fitting(house, box):
     """The rising names of the things whose places fit the box."""
     return tuple([name for name, place, worth in house[1] if fits(box, place)])
+
+
+def things_by_name(house):
+    """The things of house, each under its name."""
+    return {thing[0]: thing for thing in house[1]}

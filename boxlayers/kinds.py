@@ -1,4 +1,4 @@
-"""What the looks at anything have in common: kinds of numbers and tuples."""
+"""What the looks at anything have in common: kinds of numbers and tuples, and likeness, kinds and all."""
 
 MOST_NUMBERS = 4
 
@@ -21,3 +21,13 @@ def is_d(thing):
 def is_tuple_of(thing, length):
     """Whether thing is a tuple of so many parts."""
     return isinstance(thing, tuple) and len(thing) == length
+
+
+def is_same(thing, told):
+    """Whether thing, which may be anything, is told, which is of tuples, whole numbers and None, kinds and all."""
+    if isinstance(told, tuple):
+        return is_tuple_of(thing, len(told)) and all([is_same(part, wanted) for part, wanted in zip(thing, told)])
+    if told is None:
+        return thing is None
+    # To Python a truth may be equal to a number, so that kinds come first.
+    return is_whole(thing) and thing == told

@@ -1,4 +1,4 @@
-"""The orders of things by each of their numbers."""
+"""The orders of things by each of their numbers, and how they are halved."""
 
 
 def names_by(things, i):
@@ -9,3 +9,13 @@ def names_by(things, i):
 def order_by(house, i):
     """The names of all things: by number i, then the next ones, round behind the last one, then by name."""
     return names_by(house[1], i)
+
+
+def names_in_order(by_name, names, i):
+    """The names in the order by i, by_name having the thing of each."""
+    return names_by([by_name[name] for name in names], i)
+
+
+def halved_up(count):
+    """Half of count, rounded up."""
+    return (count + 1) // 2

@@ -125,3 +125,162 @@ def put(names, is_ahead):
     for name in names:
         row[sum(is_ahead(other, name) for other in names)] = name
     return tuple(row)
+
+
+def some_houses(dice, counts=(0, 1, 2, 3, 6, 13, 30), ds=(1, 2, 3, 4)):
+    """Houses of so many things: all at one place, many alike in some numbers, far apart, of eighteen figures."""
+    kinds = ((range(5, 6), range(0, 2)), (range(0, 2), range(-9, 10)), (range(-4, 5), range(-2, 3)))
+    kinds += ((range(-99, 100), range(-999, 1000)), ((-BIG, 1 - BIG, 0, BIG), (-BIG, 0, BIG)))
+    for d in ds:
+        for at, many in enumerate(counts):
+            for numbers, worths in (kinds if many > 1 else kinds[at::4]):
+                yield made_house(dice, d, many, numbers, worths)
+
+
+def asked_span(dice, numbers):
+    """A span with ends none, open or shut, at one of the numbers or beside it; now and then crossed."""
+    one, other = sorted(dice.choice(numbers) + dice.choice((-1, 0, 0, 1)) for each in range(2))
+    low = None if dice.random() < 0.3 else (one, dice.random() < 0.6)
+    high = None if dice.random() < 0.3 else (other, dice.random() < 0.6)
+    if low and high and dice.random() < 0.05:
+        low, high = high, low
+    return (low, high)
+
+
+def asked_boxes(dice, house, many):
+    """The whole, the empty ones and so many boxes more, with ends at numbers that are there and beside them."""
+    d, things = house
+    numbers = [[thing[1][i] for thing in things] + [0] for i in range(d)]
+    edges = edge_boxes(d)
+    few = edges[:2] + [dice.choice(edges), dice.choice(edges)]
+    return few + [tuple(asked_span(dice, numbers[i]) for i in range(d)) for each in range(many)]
+
+
+def plain_asks(dice, box, many):
+    """The asks without near and best, first of k 0, 1, some, all and more than there are."""
+    asks = [(word, box) for word in ("count", "sum", "least", "most", "all")]
+    return asks + [("first", box, k) for k in (0, 1, dice.randint(0, many), many, many + 3)]
+
+
+def drawn_asks(dice, house, box):
+    """The asks near and best of several k; near of places among the things, beside them and far off."""
+    d, things = house
+    many = len(things)
+    places = [dice.choice(things)[1]] if things else []
+    places += [tuple(dice.randint(-6, 6) for i in range(d)), (BIG,) * d]
+    asks = [("best", box, k) for k in (0, 1, dice.randint(0, many), many, many + 3)]
+    return asks + [("near", box, place, k) for place in places for k in (0, 1, dice.randint(0, many), many + 3)]
+
+
+def in_order(things, i):
+    """The things by number i, then by the next ones, round, then by name."""
+    return sorted(things, key=lambda thing: (thing[1][i:], thing[1][:i], thing[0]))
+
+
+def halved_up(count):
+    return count // 2 + count % 2
+
+
+def names_of(things):
+    return tuple(thing[0] for thing in things)
+
+
+def parted_layers(d, things, part_at=halved_up, i=0):
+    """A layer of i of the things, part_at telling of how many names how many low has; None of no things."""
+    if not things:
+        return None
+    row = in_order(things, i)
+    inner = parted_layers(d, row, part_at, i + 1) if i + 1 < d else None
+    if len(row) == 1:
+        return (names_of(row), None, None, inner)
+    many = part_at(len(row))
+    low, high = parted_layers(d, row[:many], part_at, i), parted_layers(d, row[many:], part_at, i)
+    return (names_of(row), low, high, inner)
+
+
+def bounds_of(things):
+    """The least and the greatest of each number."""
+    return tuple((min(row), max(row)) for row in zip(*[thing[1] for thing in things]))
+
+
+def parted_tree(things, part, depth=0):
+    """A tree of the things, part telling of things and a depth which are those of low; None of no things."""
+    if not things:
+        return None
+    names = tuple(sorted(names_of(things)))
+    if len(things) == 1:
+        return (names, bounds_of(things), None, None)
+    low = part(things, depth)
+    high = [thing for thing in things if thing not in low]
+    return (names, bounds_of(things), parted_tree(low, part, depth + 1), parted_tree(high, part, depth + 1))
+
+
+def turned_tree(house):
+    """The tree that halves by each number in turn."""
+    d = house[0]
+    return parted_tree(list(house[1]), lambda things, depth: in_order(things, depth % d)[:halved_up(len(things))])
+
+
+def any_tree(dice, house):
+    """A tree of any splits."""
+    return parted_tree(list(house[1]), lambda things, depth: dice.sample(things, dice.randint(1, len(things) - 1)))
+
+
+def thin_tree(house, high=False):
+    """A tree that is as deep as it has names."""
+    return parted_tree(list(house[1]), lambda things, depth: things[:-1] if high else things[:1])
+
+
+def both_trees(dice, house):
+    """The tree by turns, and one of any splits."""
+    return [turned_tree(house), any_tree(dice, house)]
+
+
+def trees_within(tree):
+    """The tree, and all those within it."""
+    found = [] if tree is None else [tree]
+    for each in found:
+        found += [half for half in each[2:4] if half is not None]
+    return found
+
+
+def put_otherwise(thing, change):
+    """The thing with one part, however deep, put as each that change tells of it."""
+    others = list(change(thing))
+    if isinstance(thing, tuple):
+        for at, part in enumerate(thing):
+            others += [thing[:at] + (other,) + thing[at + 1:] for other in put_otherwise(part, change)]
+    return others
+
+
+def changes(part):
+    """What a part of a tree is put as: of another kind, moved, turned about, left out, one more, one twice."""
+    if isinstance(part, tuple):
+        turned = [part[::-1], part[1:] + part[:1], part[:1] + part[1:2] * 2 + part[3:], part[:1] + part[:0:-1]]
+        shorter = [part[:-1], part[1:], part[:1] + part[2:]]
+        return turned + shorter + [list(part), part + part[-1:], part[:1] + part, part + (0,), (part,), None, (), 0, "x"]
+    if isinstance(part, int):
+        return [part + 1, part - 1, -part, True, False, None, str(part), float(part), (part,), [part], Unwilling()]
+    return [0, False, True, (), [], "", "None", Unwilling()]
+
+
+def is_like(one, other):
+    """Whether two things are of the same kinds and alike, all through."""
+    if type(one) is not type(other):
+        return False
+    if isinstance(one, tuple):
+        return len(one) == len(other) and all(is_like(mine, yours) for mine, yours in zip(one, other))
+    return one == other
+
+
+def is_told(thing):
+    """Whether a thing is made of tuples, whole numbers, texts, truths and None alone."""
+    if type(thing) is tuple:
+        return all(is_told(part) for part in thing)
+    return thing is None or type(thing) in (int, str, bool)
+
+
+def powers_and_beside(most):
+    """Numbers from 0 on, powers of two, one less and one more, and the most."""
+    powers = [2 ** k + more for k in range(12) for more in (-1, 0, 1)]
+    return sorted({number for number in list(range(0, 41)) + powers + [100, most - 1, most] if 0 <= number <= most})
