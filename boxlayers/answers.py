@@ -2,6 +2,7 @@
 
 from boxlayers.asks import steps
 from boxlayers.boxes import fits
+from boxlayers.houses import things_by_name
 
 
 def key_for(ask, thing):
@@ -40,3 +41,9 @@ def answer_of(things, ask):
 def answer(house, ask):
     """The answer of ask, of the things of house that fit its box."""
     return answer_of([thing for thing in house[1] if fits(ask[1], thing[1])], ask)
+
+
+def answer_out_of(house, taken, ask):
+    """The answer of ask, taken being rows of names in which those that fit its box stand once each."""
+    by_name = things_by_name(house)
+    return answer_of([by_name[name] for names in taken for name in names], ask)

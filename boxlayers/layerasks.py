@@ -1,6 +1,6 @@
 """Boxes asked of layers, with looks counted."""
 
-from boxlayers.answers import answer_of
+from boxlayers.answers import answer_out_of
 from boxlayers.boxes import all_above, all_below, lies_in, plain_box
 from boxlayers.houses import things_by_name
 from boxlayers.orders import halved_up
@@ -44,8 +44,7 @@ def taken_by_layers(house, tree, box):
 def by_layers(house, tree, ask):
     """(answer, looks) of an ask, which is none of near or best."""
     taken, looks = taken_by_layers(house, tree, ask[1])
-    by_name = things_by_name(house)
-    return (answer_of([by_name[name] for names in taken for name in names], ask), looks)
+    return (answer_out_of(house, taken, ask), looks)
 
 
 def halvings(n):

@@ -1,9 +1,8 @@
 """Boxes asked of trees by turns, with looks counted."""
 
-from boxlayers.answers import answer_of
+from boxlayers.answers import answer_out_of
 from boxlayers.boxes import lie_apart, lies_within, plain_box
 from boxlayers.drawing import drawn
-from boxlayers.houses import things_by_name
 from boxlayers.orders import halved_up
 
 
@@ -49,8 +48,7 @@ def by_turns(house, tree, ask):
     if ask[0] in ("near", "best"):
         return drawn_for(house, tree, ask)
     taken, looks = taken_by_turns(house, tree, ask[1])
-    by_name = things_by_name(house)
-    return (answer_of([by_name[name] for names in taken for name in names], ask), looks)
+    return (answer_out_of(house, taken, ask), looks)
 
 
 def cuts_from(n, d, i, turn):

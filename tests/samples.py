@@ -284,3 +284,40 @@ def powers_and_beside(most):
     """Numbers from 0 on, powers of two, one less and one more, and the most."""
     powers = [2 ** k + more for k in range(12) for more in (-1, 0, 1)]
     return sorted({number for number in list(range(0, 41)) + powers + [100, most - 1, most] if 0 <= number <= most})
+
+
+def search_looks(row, number):
+    """The looks that a search for number takes in row, as [8] counts them."""
+    low, high, looks = 0, len(row), 0
+    while low < high:
+        looks += 1
+        low, high = ((low + high) // 2 + 1, high) if row[(low + high) // 2] < number else (low, (low + high) // 2)
+    return looks
+
+
+def halvings(n):
+    """How often n is halved up until it is 1."""
+    return 0 if n == 1 else 1 + halvings(halved_up(n))
+
+
+def ways_out(bounds, plain):
+    """Each (i, side) by which all numbers i are below least or above greatest, of the empty box all of them."""
+    ways = []
+    for i, ((first, last), (least, greatest)) in enumerate(zip(bounds, plain)):
+        if (least, greatest) == (1, 0) or (least is not None and last < least):
+            ways.append((i, 0))
+        if (least, greatest) == (1, 0) or (greatest is not None and first > greatest):
+            ways.append((i, 1))
+    return ways
+
+
+def is_within(bounds, plain):
+    """Whether each place of the bounds, which aren't the empty one, fits the plain box."""
+    return all(
+        (least is None or least <= first) and (greatest is None or last <= greatest)
+        for (first, last), (least, greatest) in zip(bounds, plain))
+
+
+def kind_of(ask):
+    """What is drawn for near or best."""
+    return ("best",) if ask[0] == "best" else ("near", ask[2])

@@ -35,23 +35,14 @@ def below(house, ranks):
     return (count, total)
 
 
-def search_looks(row, number):
-    """The looks that a search for number takes in row, as [8] counts them."""
-    low, high, looks = 0, len(row), 0
-    while low < high:
-        looks += 1
-        low, high = ((low + high) // 2 + 1, high) if row[(low + high) // 2] < number else (low, (low + high) // 2)
-    return looks
-
-
 def looks_of(house, box):
     """The looks of all spans, none for None, and one for each corner."""
     looks = 1
     for i in range(house[0]):
         looks *= 2
     for i, (least, greatest) in enumerate(plain_box(box)):
-        looks += 0 if least is None else search_looks(unlike(house, i), least)
-        looks += 0 if greatest is None else search_looks(unlike(house, i), greatest + 1)
+        looks += 0 if least is None else samples.search_looks(unlike(house, i), least)
+        looks += 0 if greatest is None else samples.search_looks(unlike(house, i), greatest + 1)
     return looks
 
 

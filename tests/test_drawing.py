@@ -24,17 +24,10 @@ def key_plainly(house, tree, kind):
     return (far, min(names))
 
 
-def lies_apart(tree, plain):
-    for (first, last), (least, greatest) in zip(tree[1], plain):
-        if (least, greatest) == (1, 0) or (least is not None and last < least) or (greatest is not None and first > greatest):
-            return True
-    return False
-
-
 def plainly(house, tree, box, kind, k):
     """(names, looks, waiting) as the document tells it."""
     plain = plain_box(box)
-    waiting = [] if tree is None or k == 0 or lies_apart(tree, plain) else [tree]
+    waiting = [] if tree is None or k == 0 or samples.ways_out(tree[1], plain) else [tree]
     names, looks = [], 0
     while waiting and len(names) < k:
         waiting.sort(key=lambda each: key_plainly(house, each, kind))
@@ -43,7 +36,7 @@ def plainly(house, tree, box, kind, k):
         if len(least[0]) == 1:
             names += least[0]
         else:
-            waiting += [half for half in least[2:] if not lies_apart(half, plain)]
+            waiting += [half for half in least[2:] if not samples.ways_out(half[1], plain)]
     waiting.sort(key=lambda each: key_plainly(house, each, kind))
     return (tuple(names), looks, tuple(each[0] for each in waiting))
 
@@ -168,8 +161,8 @@ class Drawn(unittest.TestCase):
             for tree in samples.both_trees(dice, house):
                 for box in samples.asked_boxes(dice, house, 2):
                     for ask in samples.drawn_asks(dice, house, box):
-                        kind = ("best",) if ask[0] == "best" else ("near", ask[2])
-                        self.assertEqual(drawn(house, tree, box, kind, ask[-1])[0], answer(house, ask), (house, ask))
+                        names, looks, waiting = drawn(house, tree, box, samples.kind_of(ask), ask[-1])
+                        self.assertEqual(names, answer(house, ask), (house, ask))
 
     def test_more_things_and_thin_trees(self):
         dice = random.Random(135)
@@ -188,8 +181,7 @@ class Drawn(unittest.TestCase):
             for tree in (turns(house), samples.thin_tree(house), samples.thin_tree(house, high=True)):
                 for box in samples.asked_boxes(dice, house, 2):
                     for ask in (("best", box, 9), ("near", box, (7,) * d, many)):
-                        kind = ("best",) if ask[0] == "best" else ("near", ask[2])
-                        self.assertEqual(drawn(house, tree, box, kind, ask[-1])[0], answer(house, ask))
+                        self.assertEqual(drawn(house, tree, box, samples.kind_of(ask), ask[-1])[0], answer(house, ask))
 
     def test_like_ones_by_rising_names_whatever_the_tree(self):
         dice = random.Random(136)

@@ -40,11 +40,6 @@ def trees(dice, house):
     return [layers(house)] + parted
 
 
-def halvings(n):
-    """How often n is halved up until it is 1."""
-    return 0 if n == 1 else 1 + halvings(samples.halved_up(n))
-
-
 def halved_times(n, times):
     return n if times == 0 else samples.halved_up(halved_times(n, times - 1))
 
@@ -52,7 +47,7 @@ def halved_times(n, times):
 def most_plainly(n, d):
     if n == 0:
         return 0
-    h = halvings(n)
+    h = samples.halvings(n)
     a = 1 if h == 0 else 4 * h - 1
     if d == 1:
         return a

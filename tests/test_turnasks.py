@@ -12,27 +12,12 @@ from boxlayers.turnasks import by_turns, cuts, most_turn_looks, taken_by_turns
 from boxlayers.turns import turns
 
 
-def lie_apart(bounds, plain):
-    """Whether no place fits both; the empty one lies apart from each."""
-    for (first, last), (least, greatest) in zip(bounds, plain):
-        if (least, greatest) == (1, 0) or (least is not None and last < least) or (greatest is not None and first > greatest):
-            return True
-    return False
-
-
-def lies_within(bounds, plain):
-    """Whether each place of the bounds, which aren't the empty one, fits the plain box."""
-    return all(
-        (least is None or least <= first) and (greatest is None or last <= greatest)
-        for (first, last), (least, greatest) in zip(bounds, plain))
-
-
 def asked(tree, plain):
     """(taken, looks) as the document tells it."""
     names, bounds, low, high = tree
-    if lie_apart(bounds, plain):
+    if samples.ways_out(bounds, plain):
         return [], 1
-    if lies_within(bounds, plain):
+    if samples.is_within(bounds, plain):
         return [names], 1
     one, one_looks = asked(low, plain)
     other, other_looks = asked(high, plain)
@@ -170,8 +155,7 @@ class ByTurns(unittest.TestCase):
             for tree in samples.both_trees(dice, house):
                 for box in samples.asked_boxes(dice, house, 1):
                     for ask in samples.drawn_asks(dice, house, box):
-                        kind = ("best",) if ask[0] == "best" else ("near", ask[2])
-                        names, looks, waiting = drawn(house, tree, box, kind, ask[-1])
+                        names, looks, waiting = drawn(house, tree, box, samples.kind_of(ask), ask[-1])
                         told = by_turns(house, tree, ask)
                         self.assertTrue(samples.is_like(told, (answer(house, ask), looks)), (house, ask))
                         self.assertEqual(names, told[0])
