@@ -18,6 +18,11 @@ def ways_out(limits, plain):
     return [(i, side) for i in range(len(plain)) for side in (0, 1) if is_out(limits[i], plain[i], side)]
 
 
+def out_part(path, limits, plain):
+    """The part that leaves out what is at path, its bounds being out of the plain box."""
+    return (path, "out") + ways_out(limits, plain)[0]
+
+
 def cover(house, tree, box):
     """The parts of tree that box takes or leaves out, left to right."""
     plain = plain_box(box)
@@ -26,13 +31,15 @@ def cover(house, tree, box):
         if lot == "in":
             parts.append((path, "in"))
         elif lot == "out":
-            parts.append((path, "out") + ways_out(part[1], plain)[0])
+            parts.append(out_part(path, part[1], plain))
     return tuple(parts)
 
 
 def tree_at(tree, path):
-    """The tree at path."""
+    """The tree at path, None where it leads nowhere."""
     for turn in path:
+        if tree is None:
+            return None
         names, limits, low, high = tree
         tree = low if turn == 0 else high
     return tree

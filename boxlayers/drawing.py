@@ -27,8 +27,8 @@ def keyed(by_name, trees, plain, kind):
     return {key_by(by_name, tree, kind): tree for tree in trees if not lie_apart(tree[1], plain)}
 
 
-def drawn(house, tree, box, kind, k):
-    """(names, looks, waiting): up to k names by rising keys, the looks, and the names of each that waits at the end."""
+def drawn_past(gone, house, tree, box, kind, k):
+    """As drawn, but names that are keys of gone are neither told nor counted."""
     by_name = things_by_name(house)
     plain = plain_box(box)
     names = []
@@ -38,8 +38,13 @@ def drawn(house, tree, box, kind, k):
     while len(waiting) > 0 and len(names) < k:
         part_names, limits, low, high = waiting.pop(min(list(waiting)))
         looks += 1
-        if len(part_names) == 1:
-            names.append(part_names[0])
-        else:
+        if len(part_names) > 1:
             waiting.update(keyed(by_name, [low, high], plain, kind))
+        elif part_names[0] not in gone:
+            names.append(part_names[0])
     return (tuple(names), looks, tuple([waiting[key][0] for key in sorted(list(waiting))]))
+
+
+def drawn(house, tree, box, kind, k):
+    """(names, looks, waiting): up to k names by rising keys, the looks, and the names of each that waits at the end."""
+    return drawn_past({}, house, tree, box, kind, k)

@@ -32,7 +32,7 @@ def thing_of(house, name):
     for thing in house[1]:
         if thing[0] == name:
             return thing
-    raise NoThing(f"no thing is called {name}")
+    raise NoThing("no thing has this name")
 
 
 def fitting(house, box):

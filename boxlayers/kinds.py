@@ -13,6 +13,11 @@ def is_from_zero(thing):
     return is_whole(thing) and thing >= 0
 
 
+def is_below(thing, limit):
+    """Whether thing is a whole number from 0 on, and below limit."""
+    return is_from_zero(thing) and thing < limit
+
+
 def is_d(thing):
     """Whether thing is a d: how many numbers a place may have."""
     return is_whole(thing) and 1 <= thing <= MOST_NUMBERS

@@ -36,10 +36,14 @@ def taken_by_turns(house, tree, box):
     return (tuple([part[0] for path, part, lot in seen if lot == "in"]), len(seen))
 
 
+def kind_of(ask):
+    """What is drawn for near or best."""
+    return ("near", ask[2]) if ask[0] == "near" else ("best",)
+
+
 def drawn_for(house, tree, ask):
     """(answer, looks) of near or best."""
-    kind = ("near", ask[2]) if ask[0] == "near" else ("best",)
-    names, looks, waiting = drawn(house, tree, ask[1], kind, ask[-1])
+    names, looks, waiting = drawn(house, tree, ask[1], kind_of(ask), ask[-1])
     return (names, looks)
 
 

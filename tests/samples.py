@@ -321,3 +321,84 @@ def is_within(bounds, plain):
 def kind_of(ask):
     """What is drawn for near or best."""
     return ("best",) if ask[0] == "best" else ("near", ask[2])
+
+
+def at_path(tree, path):
+    """The tree at the path, None where it leads nowhere."""
+    for turn in path:
+        tree = None if tree is None else tree[2 + turn]
+    return tree
+
+
+def paths_within(tree, path=()):
+    """The path of each tree in it, also its own."""
+    if tree is None:
+        return []
+    return [path] + [each for turn in (0, 1) for each in paths_within(tree[2 + turn], path + (turn,))]
+
+
+def all_parts(tree, d, words=("in",)):
+    """Each path and one that leads nowhere with each of the words, and out by each number and side."""
+    paths = paths_within(tree) + [(0,) * 9]
+    ways = [(word,) for word in words] + [("out", i, side) for i in range(d) for side in (0, 1)]
+    return [(path,) + way for path in paths for way in ways]
+
+
+def parted_further(dice, tree, parts, plain, often=0.5):
+    """Parts of which some in, out or far are parted further, outs by any way that is so, in another order."""
+    waiting, found = list(parts), []
+    while waiting:
+        part = waiting.pop()
+        below = at_path(tree, part[0])
+        if len(below[0]) > 1 and dice.random() < often:
+            waiting += [(part[0] + (turn,),) + part[1:] for turn in (0, 1)]
+        elif part[1] == "out":
+            found.append(part[:2] + dice.choice(ways_out(below[1], plain)))
+        else:
+            found.append(part)
+    dice.shuffle(found)
+    return tuple(found)
+
+
+def taken_plainly(tree, plain):
+    """(taken, looks): a list of names (a tuple) of each that a plain box takes of a tree, as [13] tells it."""
+    if tree is None:
+        return [], 0
+    names, bounds, low, high = tree
+    if ways_out(bounds, plain):
+        return [], 1
+    if is_within(bounds, plain):
+        return [names], 1
+    one, one_looks = taken_plainly(low, plain)
+    other, other_looks = taken_plainly(high, plain)
+    return one + other, 1 + one_looks + other_looks
+
+
+def key_plainly(house, tree, kind):
+    """(far, name) as [16] tells it."""
+    names, bounds, low, high = tree
+    if kind[0] == "best":
+        return (0 - max(worth for name, place, worth in house[1] if name in names), min(names))
+    far = 0
+    for number, (first, last) in zip(kind[1], bounds):
+        nearest = first if number < first else last if number > last else number
+        far += max(number, nearest) - min(number, nearest)
+    return (far, min(names))
+
+
+def drawn_plainly(house, tree, plain, kind, k, gone=()):
+    """(told, looks, waiting, apart), (path, tree) of each, as [17] tells it; gone names are told, and don't count."""
+    told, looks, waiting, apart, many = [], 0, [], [], 0
+    coming = [((), tree)] if tree is not None and k > 0 else []
+    while True:
+        for path, each in coming:
+            (apart if ways_out(each[1], plain) else waiting).append((path, each))
+        waiting.sort(key=lambda pair: key_plainly(house, pair[1], kind))
+        if not waiting or many == k:
+            return told, looks, waiting, apart
+        path, least = waiting.pop(0)
+        looks += 1
+        coming = [(path + (turn,), least[2 + turn]) for turn in (0, 1) if len(least[0]) > 1]
+        if not coming:
+            told.append((path, least))
+            many += least[0][0] not in gone

@@ -27,29 +27,6 @@ def plainly(tree, box):
     return () if tree is None else tuple(parts_of(tree, plain_box(box)))
 
 
-def at_path(tree, path):
-    for turn in path:
-        tree = tree[2 + turn]
-    return tree
-
-
-def parted_further(dice, tree, parts, box):
-    """A cover that has some parts parted further, outs by any way that is so, and that in another order."""
-    plain = plain_box(box)
-    waiting, found = list(parts), []
-    while waiting:
-        part = waiting.pop()
-        below = at_path(tree, part[0])
-        if len(below[0]) > 1 and dice.random() < 0.5:
-            waiting += [(part[0] + (turn,),) + part[1:] for turn in (0, 1)]
-        elif part[1] == "out":
-            found.append(part[:2] + dice.choice(samples.ways_out(below[1], plain)))
-        else:
-            found.append(part)
-    dice.shuffle(found)
-    return tuple(found)
-
-
 class ByHand(unittest.TestCase):
     house = (2, ((0, (4, 1), 10), (3, (5, 1), -2), (8, (0, 2), 7)))
 
@@ -113,9 +90,9 @@ class Cover(unittest.TestCase):
             for tree in samples.both_trees(dice, house):
                 for box in samples.asked_boxes(dice, house, 5):
                     parts = cover(house, tree, box)
-                    names = [name for part in parts for name in at_path(tree, part[0])[0]]
+                    names = [name for part in parts for name in samples.at_path(tree, part[0])[0]]
                     self.assertEqual(sorted(names), list(samples.names_of(house[1])))
-                    taken = tuple(at_path(tree, part[0])[0] for part in parts if part[1] == "in")
+                    taken = tuple(samples.at_path(tree, part[0])[0] for part in parts if part[1] == "in")
                     self.assertEqual(taken, taken_by_turns(house, tree, box)[0])
                     self.assertEqual(list(parts), sorted(parts, key=lambda part: part[0]))
 
@@ -136,7 +113,8 @@ class ByCover(unittest.TestCase):
             for tree in samples.both_trees(dice, house):
                 for box in samples.asked_boxes(dice, house, 3):
                     parts = cover(house, tree, box)
-                    covers = [parts, parts[::-1]] + [parted_further(dice, tree, parts, box) for each in range(2)]
+                    covers = [parts, parts[::-1]] + [
+                        samples.parted_further(dice, tree, parts, plain_box(box)) for each in range(2)]
                     for ask in samples.plain_asks(dice, box, len(house[1])):
                         for each in covers:
                             told = by_cover(house, tree, box, each, ask)

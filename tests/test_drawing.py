@@ -12,33 +12,10 @@ from boxlayers.drawing import drawn, key_of
 from boxlayers.turns import turns
 
 
-def key_plainly(house, tree, kind):
-    """(far, name) as the document tells it."""
-    names, bounds, low, high = tree
-    if kind[0] == "best":
-        return (0 - max(worth for name, place, worth in house[1] if name in names), min(names))
-    far = 0
-    for number, (first, last) in zip(kind[1], bounds):
-        nearest = first if number < first else last if number > last else number
-        far += max(number, nearest) - min(number, nearest)
-    return (far, min(names))
-
-
 def plainly(house, tree, box, kind, k):
     """(names, looks, waiting) as the document tells it."""
-    plain = plain_box(box)
-    waiting = [] if tree is None or k == 0 or samples.ways_out(tree[1], plain) else [tree]
-    names, looks = [], 0
-    while waiting and len(names) < k:
-        waiting.sort(key=lambda each: key_plainly(house, each, kind))
-        least = waiting.pop(0)
-        looks += 1
-        if len(least[0]) == 1:
-            names += least[0]
-        else:
-            waiting += [half for half in least[2:] if not samples.ways_out(half[1], plain)]
-    waiting.sort(key=lambda each: key_plainly(house, each, kind))
-    return (tuple(names), looks, tuple(each[0] for each in waiting))
+    told, looks, waiting, apart = samples.drawn_plainly(house, tree, plain_box(box), kind, k)
+    return (tuple(tree[0][0] for path, tree in told), looks, tuple(tree[0] for path, tree in waiting))
 
 
 def some_places(dice, house):
@@ -84,7 +61,7 @@ class KeyOf(unittest.TestCase):
                 for each in samples.trees_within(tree):
                     for kind in kinds:
                         told = key_of(house, each, kind)
-                        self.assertTrue(samples.is_like(told, key_plainly(house, each, kind)), (house, each, kind))
+                        self.assertTrue(samples.is_like(told, samples.key_plainly(house, each, kind)), (house, each, kind))
                         self.assertEqual(key_of(house, each, kind), told)
 
     def test_steps_are_those_to_the_nearest_place_of_the_bounds(self):

@@ -12,20 +12,8 @@ from boxlayers.turnasks import by_turns, cuts, most_turn_looks, taken_by_turns
 from boxlayers.turns import turns
 
 
-def asked(tree, plain):
-    """(taken, looks) as the document tells it."""
-    names, bounds, low, high = tree
-    if samples.ways_out(bounds, plain):
-        return [], 1
-    if samples.is_within(bounds, plain):
-        return [names], 1
-    one, one_looks = asked(low, plain)
-    other, other_looks = asked(high, plain)
-    return one + other, 1 + one_looks + other_looks
-
-
 def plainly(tree, box):
-    taken, looks = ([], 0) if tree is None else asked(tree, plain_box(box))
+    taken, looks = samples.taken_plainly(tree, plain_box(box))
     return (tuple(taken), looks)
 
 
