@@ -402,3 +402,19 @@ def drawn_plainly(house, tree, plain, kind, k, gone=()):
         if not coming:
             told.append((path, least))
             many += least[0][0] not in gone
+
+
+def some_step(dice, d, far=9):
+    """A step: a shift near or far, a mirror, a swap, also of a number with itself."""
+    word = dice.choice(("shift", "mirror", "swap"))
+    if word == "shift":
+        reach = dice.choice((1, far, BIG))
+        return (word, tuple(dice.choice((0, dice.randint(-reach, reach))) for i in range(d)))
+    if word == "mirror":
+        return (word, dice.randrange(d))
+    return (word, dice.randrange(d), dice.randrange(d))
+
+
+def some_move(dice, d, many, far=9):
+    """A move of so many steps."""
+    return tuple(some_step(dice, d, far) for each in range(many))

@@ -1,4 +1,4 @@
-"""[3]: what is promised over the whole program: ways, papers and kept houses held against one another."""
+"""[3]: what is promised over the whole program: ways, papers, kept and moved houses, texts held against one another."""
 
 import random
 import unittest
@@ -8,15 +8,20 @@ from boxlayers.answers import answer
 from boxlayers.corners import Corners
 from boxlayers.covers import by_cover, cover
 from boxlayers.coverlooks import shows_cover
+from boxlayers.desk import Desk
 from boxlayers.drawing import drawn
 from boxlayers.drawnlooks import shows_drawn
 from boxlayers.drawnpapers import drawn_paper
+from boxlayers.hanging import is_row, ran, ran_by
 from boxlayers.keeping import Kept, most_made
 from boxlayers.layerasks import by_layers, most_layer_looks, taken_by_layers
 from boxlayers.layers import is_layers, layers
 from boxlayers.markasks import by_marks, kth_by_marks, most_mark_looks, taken_by_marks
 from boxlayers.marks import is_marked, marked
+from boxlayers.moving import back, moved_box, moved_house, moved_place
 from boxlayers.orders import order_by
+from boxlayers.reading import read_ask, read_box, read_house
+from boxlayers.showing import show_ask, show_box, show_house
 from boxlayers.turnasks import by_turns, most_turn_looks, taken_by_turns
 from boxlayers.turns import is_turns, turns
 
@@ -196,6 +201,113 @@ class ComingAndGoing(unittest.TestCase):
                 comings += 1
                 self.assertLessEqual(kept.made(), most_made(comings, goings))
             self.assertEqual(kept.house(), house)
+
+
+def hanging_row(dice, house):
+    """A row in which boxes, places, names and k hang on answers ahead, of a house with things."""
+    d, things = house
+    whole = samples.whole(d)
+    one, other = [dice.choice(things)[0] for each in range(2)]
+    i = dice.randrange(d)
+    # Ends at the numbers i of two things, then the box's least one and what is beside it.
+    span = ((("of", 0, -1), True), (("of", 1, dice.randint(0, 3)), dice.random() < 0.5))
+    box = whole[:i] + (span,) + whole[i + 1:]
+    row = (("number", one, i), ("number", other, i), ("count", box), ("sum", box), ("least", whole), ("most", whole))
+    row += (("worth", ("of", 4, 0)), ("number", ("of", 5, 0), i), ("all", box), ("first", box, ("of", 2, 0)))
+    row += (("best", whole, ("of", 2, 1)), ("near", box, (("of", 0, 0),) * d, ("of", 2, 2)))
+    narrow = tuple(((("of", 0, -3), True), (("of", 7, 3), False)) for each in range(d))
+    return row + (("count", narrow), ("sum", narrow), ("least", narrow), ("near", narrow, (("of", 12, 0),) * d, 2))
+
+
+class Hanging(unittest.TestCase):
+    """(e)."""
+
+    def test_each_way_comes_to_the_same(self):
+        dice = random.Random(310)
+        for kept, house in kept_houses(dice, (2, 5, 9)):
+            for each in range(2):
+                row = hanging_row(dice, house)
+                self.assertIs(is_row(row, house[0]), True)
+                answers = ran(house, row)
+                for way in ("corners", "layers", "turns", "marks", "kept"):
+                    self.assertTrue(samples.is_like(ran_by(way, house, row)[0], answers), (way, house, row))
+
+
+class Moved(unittest.TestCase):
+    """(f)."""
+
+    def moved_ask(self, move, ask):
+        if ask[0] == "near":
+            return (ask[0], moved_box(move, ask[1]), moved_place(move, ask[2]), ask[3])
+        return (ask[0], moved_box(move, ask[1])) + ask[2:]
+
+    def test_each_way_answers_alike(self):
+        dice = random.Random(311)
+        for kept, house in kept_houses(dice, (0, 1, 2, 5, 9)):
+            move = samples.some_move(dice, house[0], dice.randint(0, 4))
+            moved = moved_house(move, house)
+            moved_kept = Kept(house[0])
+            for thing in moved[1]:
+                moved_kept.come(thing)
+            for ask in dice.sample(list(asks_of(dice, house, 1)), 20):
+                wanted, other = answer(house, ask), self.moved_ask(move, ask)
+                answers = [("plainly", answer(moved, other)), ("kept", moved_kept.ask(other)[0])]
+                for way, told in answers + list(answers_by_all_ways(dice, moved, other)):
+                    if ask[0] == "all":
+                        self.assertEqual(sorted(told), sorted(wanted), (way, house, move, ask))
+                    elif ask[0] != "first":
+                        self.assertEqual(told, wanted, (way, house, move, ask))
+
+    def test_all_and_first_of_shifts(self):
+        dice = random.Random(312)
+        for kept, house in kept_houses(dice, (1, 2, 5, 9)):
+            move = tuple(("shift", tuple(dice.randint(-99, 99) for i in range(house[0]))) for each in range(2))
+            moved = moved_house(move, house)
+            for box in samples.asked_boxes(dice, house, 2):
+                for ask in [("all", box)] + [("first", box, k) for k in (0, 1, 3, 99)]:
+                    for way, told in answers_by_all_ways(dice, moved, self.moved_ask(move, ask)):
+                        self.assertEqual(told, answer(house, ask))
+
+    def test_moved_back_all_is_as_it_was(self):
+        dice = random.Random(313)
+        for kept, house in kept_houses(dice, (1, 5)):
+            move = samples.some_move(dice, house[0], 5)
+            there = moved_house(move, house)
+            self.assertTrue(samples.is_like(moved_house(back(move), there), house))
+            self.assertEqual(turns(moved_house(back(move), there)), turns(house))
+
+    def test_covers_of_what_is_moved(self):
+        dice = random.Random(314)
+        for kept, house in kept_houses(dice, (1, 5, 9)):
+            move = samples.some_move(dice, house[0], 3)
+            moved = moved_house(move, house)
+            for box in samples.asked_boxes(dice, house, 2):
+                parts = cover(moved, turns(moved), moved_box(move, box))
+                taken = [name for part in parts if part[1] == "in" for name in samples.at_path(turns(moved), part[0])[0]]
+                self.assertEqual(sorted(taken), sorted(answer(house, ("all", box))))
+
+
+class Written(unittest.TestCase):
+    """(g)."""
+
+    def test_what_is_written_is_read_as_it_was(self):
+        dice = random.Random(315)
+        for kept, house in kept_houses(dice):
+            self.assertTrue(samples.is_like(read_house(show_house(house)), house))
+            for ask in asks_of(dice, house, 1):
+                self.assertTrue(samples.is_like(read_box(show_box(ask[1]), house[0]), ask[1]))
+                self.assertTrue(samples.is_like(read_ask(show_ask(ask), house[0]), ask))
+
+    def test_the_desk_answers_as_all_ways_do(self):
+        dice = random.Random(316)
+        for kept, house in kept_houses(dice, (0, 1, 2, 5)):
+            desk = Desk(show_house(house))
+            for ask in dice.sample(list(asks_of(dice, house, 1)), 12):
+                said = desk.say(show_ask(ask))
+                for way, told in [("kept", kept.ask(ask)[0])] + list(answers_by_all_ways(dice, house, ask)):
+                    names = told if isinstance(told, tuple) else () if told is None else (told,)
+                    self.assertEqual(said, " ".join(str(name) for name in names) or "-", (way, house, ask))
+                self.assertEqual(desk.say("ways " + show_ask(ask)), "alike")
 
 
 if __name__ == "__main__":
